@@ -8,9 +8,10 @@ MOST_ROWS = 7
 MOST_SIGNS = 7
 MOST_ISLANDS = 10
 
-# Where an island's tuple (row, place, wish) holds its row and its place.
+# Where an island's tuple (row, place, wish) holds each of these.
 ROW = 0
 PLACE = 1
+WISH = 2
 
 
 def islands(sea):

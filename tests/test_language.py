@@ -2,6 +2,7 @@
 and so that it has no clock, no chance, no files to reach for."""
 
 import ast
+import builtins
 import pathlib
 import re
 import unittest
@@ -98,7 +99,32 @@ def fault_of_node(node, bound):
 
 def faults_of_names(bound):
     faults = [f"L12 {name}" for name in bound if name.startswith("_") and name not in METHODS_WITH_UNDERSCORES]
-    return faults + [f"L15 {name}" for name in bound if name in PYTHONS_NAMES]
+    return faults + [f"L15 {name}" for name in bound if name in dir(builtins) and name not in METHODS_WITH_UNDERSCORES]
+
+
+def imports_of(tree):
+    return [(node.module, name.name) for node in tree.body if isinstance(node, ast.ImportFrom) for name in node.names]
+
+
+def names_at_top(tree):
+    names = [name for module, name in imports_of(tree)]
+    for node in tree.body:
+        if isinstance(node, (ast.FunctionDef, ast.ClassDef)):
+            names.append(node.name)
+        elif isinstance(node, ast.Assign):
+            names.extend(target.id for target in node.targets)
+    return names
+
+
+# Stricter than L15, which lets a local be called like a function of its own file.
+def faults_of_top(tree):
+    top = names_at_top(tree)
+    faults = [f"L15 {name}: bound twice" for name in sorted(set(top)) if top.count(name) > 1]
+    for node in tree.body:
+        if isinstance(node, ast.FunctionDef):
+            local = set(bound_names(node)) - {node.name}
+            faults.extend(f"L15 {name}: a local called like a name of the top" for name in sorted(local & set(top)))
+    return faults
 
 
 def faults_of_statements(tree):
@@ -118,7 +144,18 @@ def faults_of(text):
     bound = bound_names(tree)
     found = [fault_of_node(node, bound) for node in ast.walk(tree)]
     faults = [fault for fault in found if fault is not None]
-    return faults_of_text(text) + faults + faults_of_names(bound) + faults_of_statements(tree)
+    return faults_of_text(text) + faults + faults_of_names(bound) + faults_of_statements(tree) + faults_of_top(tree)
+
+
+# A file is taken off once all that it draws from is; what is left leads into a circle.
+def drawing_in_circles(drawn_from):
+    left = dict(drawn_from)
+    while True:
+        free = [name for name in left if not any(other in left for other in left[name])]
+        if not free:
+            return sorted(left)
+        for name in free:
+            del left[name]
 
 
 class Language(unittest.TestCase):
@@ -132,6 +169,18 @@ class Language(unittest.TestCase):
         for path in sorted(PACKAGE.glob("*.py")):
             with self.subTest(file=path.name):
                 self.assertEqual(faults_of(path.read_bytes().decode("ascii")), [])
+
+    def test_imports_come_from_the_file_that_defines_the_name_and_not_in_circles(self):
+        trees = {f"bridgeties.{path.stem}": ast.parse(path.read_text()) for path in PACKAGE.glob("*.py")}
+        for file, tree in trees.items():
+            for module, name in imports_of(tree):
+                with self.subTest(file=file, module=module, name=name):
+                    drawn = [other for source, other in imports_of(trees[module])]
+                    self.assertIn(name, names_at_top(trees[module]))
+                    self.assertNotIn(name, drawn)
+        drawn_from = {file: {module for module, name in imports_of(tree)} for file, tree in trees.items()}
+        self.assertEqual(drawing_in_circles(drawn_from), [])
+        self.assertEqual(drawing_in_circles({"a": {"b"}, "b": {"c"}, "c": {"b"}, "d": set()}), ["a", "b", "c"])
 
     def test_a_breach_is_seen(self):
         breaches = (
@@ -149,6 +198,9 @@ class Language(unittest.TestCase):
             "def told(*sea):\n    return sea\n",
             "def told(sea):\n    first = last = sea\n    return first\n",
             "def told(sea):\n    len = 2\n    return len\n",
+            "def told(sea):\n    next = 2\n    return next\n",
+            "from bridgeties.seas import sights\n\n\ndef told(sea):\n    sights = sea\n    return sights\n",
+            "KEPT = 1\nKEPT = 2\n",
             "def _told(sea):\n    return sea\n",
             "def told(sea):\n\treturn sea\n",
             "def told(sea):\n    # its type\n    return sea\n",

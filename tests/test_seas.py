@@ -1,9 +1,9 @@
 import inspect
-import itertools
 import unittest
 
 from bridgeties.errors import BadSea
 from bridgeties.seas import crossings, islands, sights
+from tests.expected import expected_crossings, expected_islands, expected_sights, seas_of
 
 ASKED = (islands, sights, crossings)
 
@@ -31,46 +31,6 @@ FULL = [
 
 def asked_of(sea):
     return [ask(sea) for ask in ASKED]
-
-
-# The document's own words over single cells, with nothing of the package in them.
-def expected_islands(sea):
-    cells = itertools.product(range(len(sea)), range(len(sea[0])))
-    return [(row, place, int(sea[row][place])) for row, place in cells if sea[row][place] != "."]
-
-
-def cells_between(one, other):
-    rows = range(min(one[0], other[0]), max(one[0], other[0]) + 1)
-    places = range(min(one[1], other[1]), max(one[1], other[1]) + 1)
-    return [cell for cell in itertools.product(rows, places) if cell not in (one[:2], other[:2])]
-
-
-def expected_sights(sea):
-    found = expected_islands(sea)
-    told = []
-    for one, other in itertools.combinations(range(len(found)), 2):
-        in_line = found[one][0] == found[other][0] or found[one][1] == found[other][1]
-        if in_line and all(sea[row][place] == "." for row, place in cells_between(found[one], found[other])):
-            told.append((one, other))
-    return sorted(told)
-
-
-def expected_crossings(sea):
-    found = expected_islands(sea)
-    told = []
-    for (number, sight), (other_number, other) in itertools.combinations(enumerate(expected_sights(sea)), 2):
-        along = [found[one][0] == found[two][0] for one, two in (sight, other)]
-        water = [set(cells_between(found[one], found[two])) for one, two in (sight, other)]
-        if along[0] != along[1] and water[0] & water[1]:
-            told.append((number, other_number))
-    return sorted(told)
-
-
-def seas_of(rows, signs, figures):
-    for text in itertools.product(figures, repeat=rows * signs):
-        sea = ["".join(text[row * signs:(row + 1) * signs]) for row in range(rows)]
-        if 1 <= sum(sign != "." for sign in text) <= 10:
-            yield sea
 
 
 class Islands(unittest.TestCase):
